@@ -1,0 +1,1 @@
+"""Nodeladder: roads, ranks and short cuts."""
