@@ -19,6 +19,7 @@ OWN_NAMES = """len range enumerate zip min max sum abs sorted reversed int str b
 METHODS = """append clear copy count endswith extend find get index insert isalnum isalpha isdigit islower isspace
     isupper items join keys ljust lower lstrip partition pop remove replace reverse rfind rjust rpartition rsplit
     rstrip setdefault split splitlines startswith strip update upper values zfill bit_length""".split()
+VALUES = "count index title find get join lower upper split strip copy add".split()
 UNDERSCORED = "__init__ __eq__ __repr__ __str__ __len__ __all__ __version__ __name__".split()
 UNUSED = """register mro elements open input version_info with_traceback add_note format format_map attrgetter
     breakpoint builtins compile copyright credits delattr dir eval exec exit gc getattr globals hasattr help id
@@ -175,6 +176,25 @@ class LanguageTest(unittest.TestCase):
             shut = [alias.name for node in tree.body if isinstance(node, ast.ImportFrom) for alias in node.names]
             shut += [node.name for node in tree.body if isinstance(node, ast.ClassDef)] + dir(builtins)
             self.assertFalse([name for name in bound(tree) if name in shut])
+
+    def test_l18_l26_methods_and_values(self):
+        inside = [part for node, where in self.each_node(ast.ClassDef) for part in node.body]
+        methods = [part.name for part in inside if isinstance(part, ast.FunctionDef)]
+        kinds = (str, int, list, tuple, dict, set, frozenset, bytes, bytearray, ValueError)
+        pythons = {name for kind in kinds for name in dir(kind)}
+        for name in methods:
+            if name not in METHODS + ["add", "discard"] + UNDERSCORED:
+                self.assertNotIn(name, pythons)
+        for node, where in self.each_node(ast.Attribute):
+            if isinstance(node.ctx, ast.Store):
+                self.assertNotIn(node.attr, methods, where)
+                if node.attr not in VALUES:
+                    self.assertNotIn(node.attr, pythons, where)
+
+    def test_l18_no_method_stands_twice(self):
+        for node, where in self.each_node(ast.ClassDef):
+            methods = [part.name for part in node.body if isinstance(part, ast.FunctionDef)]
+            self.assertEqual(len(methods), len(set(methods)), where)
 
     def test_l20_is(self):
         for node, where in self.each_node(ast.Compare):
