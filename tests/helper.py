@@ -105,6 +105,10 @@ def least_of(costs):
     return min((cost for cost in costs if cost is not None), default=None)
 
 
+def summed(one, other):
+    return None if None in (one, other) else (one[0] + other[0], one[1] + other[1])
+
+
 def cost_table(net):
     """The costs from each place to each, by opening one place between after another."""
     places = range(net[0])
@@ -115,8 +119,41 @@ def cost_table(net):
     for over, one, other in itertools.product(places, repeat=3):
         ahead, behind = table[one][over], table[over][other]
         if ahead is not None and behind is not None:
-            table[one][other] = least_of([table[one][other], (ahead[0] + behind[0], ahead[1] + behind[1])])
+            table[one][other] = least_of([table[one][other], summed(ahead, behind)])
     return table
+
+
+def orders_of(net, seed):
+    """Each order of up to four places, else some."""
+    places = list(range(net[0]))
+    if net[0] <= 4:
+        return [list(order) for order in itertools.permutations(places)]
+    return [places, places[::-1]] + [Numbers(seed + k).mixed(places) for k in range(3)]
+
+
+def maps_with_orders(small, large):
+    """Tuples (map, order): the maps at the edges, so many small and so many large ones, each with several orders."""
+    nets = list(told_maps().values()) + small_maps(small, 6, 12) + large_maps(large)
+    nets += [made_map(700 + places, places, 3 * places) for places in range(6, 17) if large]
+    return [(net, order) for seed, net in enumerate(nets) for order in orders_of(net, seed)]
+
+
+def own_arcs_by_tables(net, order):
+    """The arcs and their costs: a table for each two ends, with the places below them alone."""
+    costs = {}
+    for u, w in itertools.permutations(range(net[0]), 2):
+        below = order[:min(order.index(u), order.index(w))] + [u, w]
+        roads = [road for road in net[1] if road[0] in below and road[1] in below]
+        cost = cost_table((net[0], roads))[u][w]
+        if cost is not None:
+            costs[u, w] = cost
+    return costs
+
+
+def own_kept(net, order):
+    """The kept arcs and their costs, as point 14 tells them."""
+    costs = cost_table(net)
+    return {(u, w): cost for (u, w), cost in own_arcs_by_tables(net, order).items() if cost <= costs[u][w]}
 
 
 def lists_within(thing):

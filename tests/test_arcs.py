@@ -2,7 +2,8 @@ import copy
 import itertools
 import unittest
 
-from helper import MOST, Numbers, beyond_map, cost_table, large_maps, made_map, small_maps, spoil, told_maps, ways_from
+from helper import (MOST, beyond_map, large_maps, made_map, orders_of, own_arcs_by_tables, small_maps, spoil,
+                    told_maps, ways_from)
 from nodeladder.arcs import arc_costs, middles
 
 
@@ -17,18 +18,6 @@ def own_arcs(net, order):
     return costs
 
 
-def own_arcs_by_tables(net, order):
-    """The same for maps with too many ways: a table for each two ends, with the places below them alone."""
-    costs = {}
-    for u, w in itertools.permutations(range(net[0]), 2):
-        below = order[:min(order.index(u), order.index(w))] + [u, w]
-        roads = [road for road in net[1] if road[0] in below and road[1] in below]
-        cost = cost_table((net[0], roads))[u][w]
-        if cost is not None:
-            costs[u, w] = cost
-    return costs
-
-
 def own_middles(net, order, costs):
     """The middles of arcs with these costs, as point 12 tells them."""
     told = {}
@@ -39,14 +28,6 @@ def own_middles(net, order, costs):
         is_road = any(road[2] is not None and road[:2] == (u, w) and (road[2], 1) == cost for road in net[1])
         told[u, w] = None if is_road else over[0]
     return told
-
-
-def orders_of(net, seed):
-    """Each order of up to four places, else some."""
-    places = list(range(net[0]))
-    if net[0] <= 4:
-        return [list(order) for order in itertools.permutations(places)]
-    return [places, places[::-1]] + [Numbers(seed + k).mixed(places) for k in range(3)]
 
 
 class ArcsTest(unittest.TestCase):

@@ -1,6 +1,6 @@
 """Holds the package to the rules of ../shared/LANGUAGE.md that its written form shows.
 
-Rules of how values are used (most of L15, L18, L19, L23 to L26, L28) are left to the reader.
+Rules of how values are used (most of L15, L18, L19, L25, L26, L28, and L23's changes in a walk) are left to the reader.
 """
 
 import ast
@@ -34,6 +34,9 @@ NODES = """Module Expr ImportFrom alias FunctionDef ClassDef arguments arg keywo
     Eq NotEq Lt LtE Gt GtE Is IsNot In NotIn""".split()
 
 
+WALKS = ("zip", "enumerate", "reversed", "range", "items", "keys", "values")
+
+
 def named(node):
     """The names that a node of the tree binds, reads or calls."""
     if isinstance(node, ast.Name):
@@ -60,6 +63,30 @@ def bound(tree):
 
 def is_docstring(node):
     return isinstance(node, ast.Expr) and isinstance(node.value, ast.Constant) and isinstance(node.value.value, str)
+
+
+def parents(tree):
+    return {part: node for node in ast.walk(tree) for part in ast.iter_child_nodes(node)}
+
+
+def called(node):
+    """The name by which a call calls."""
+    return getattr(node.func, "id", getattr(node.func, "attr", None))
+
+
+def is_walked(node, part):
+    """Whether a walk that stands in this part of the tree is walked on the spot."""
+    if isinstance(part, (ast.For, ast.comprehension)):
+        return part.iter is node
+    if not isinstance(part, ast.Call) or node not in part.args:
+        return False
+    if called(part) == "zip":
+        return True
+    if called(part) in ("list", "tuple", "dict", "sorted", "sum", "any", "all", "enumerate"):
+        return part.args[0] is node
+    if called(part) in ("min", "max"):
+        return len(part.args) == 1
+    return called(part) == "join" and isinstance(part.func.value, ast.Constant)
 
 
 class LanguageTest(unittest.TestCase):
@@ -201,6 +228,53 @@ class LanguageTest(unittest.TestCase):
             for sign, right in zip(node.ops, node.comparators):
                 if isinstance(sign, (ast.Is, ast.IsNot)):
                     self.assertTrue(isinstance(right, ast.Constant) and right.value in (None, True, False), where)
+
+    def test_l19_errors(self):
+        # Narrower than the rule: ValueError, LookupError and IndexError are taken nowhere.
+        own = [node.name for node, where in self.each_node(ast.ClassDef)]
+        for node, where in self.each_node((ast.ExceptHandler, ast.Raise)):
+            if isinstance(node, ast.ExceptHandler):
+                taken = node.type.elts if isinstance(node.type, ast.Tuple) else [node.type]
+                for part in taken:
+                    self.assertIn(part.id, own + ["KeyError", "ZeroDivisionError", "StopIteration"], where)
+            else:
+                self.assertIsInstance(node.exc, ast.Call, where)
+
+    def test_l22_keywords(self):
+        taken = {"sorted": ["key", "reverse"], "min": ["key", "default"], "max": ["key", "default"],
+                 "sum": ["start"], "enumerate": ["start"], "zip": ["strict"]}
+        for node, where in self.each_node(ast.Call):
+            if isinstance(node.func, ast.Name) and node.func.id in dir(builtins):
+                for keyword in node.keywords:
+                    self.assertIn(keyword.arg, taken.get(node.func.id, []), where)
+            if isinstance(node.func, ast.Attribute) and node.func.attr in METHODS:
+                self.assertFalse(node.keywords, where)
+
+    def test_l22_pythons_own_are_called_not_kept(self):
+        for path, tree in self.each_tree():
+            above = parents(tree)
+            for node in ast.walk(tree):
+                if isinstance(node, ast.Name) and node.id in ("len", "sorted", "range", "min", "max", "sum", "any", "all"):
+                    part = above[node]
+                    self.assertTrue(isinstance(part, ast.Call) and part.func is node, f"{path.name}, {node.lineno}")
+
+    def test_l23_walked_at_once(self):
+        for path, tree in self.each_tree():
+            above = parents(tree)
+            for node in ast.walk(tree):
+                if isinstance(node, ast.Call) and called(node) in WALKS:
+                    self.assertTrue(is_walked(node, above[node]), f"{path.name}, line {node.lineno}")
+
+    def test_l24_sets(self):
+        for path, tree in self.each_tree():
+            above = parents(tree)
+            for node in ast.walk(tree):
+                if isinstance(node, ast.Set) or isinstance(node, ast.Call) and called(node) in ("set", "frozenset"):
+                    part = above[node]
+                    while isinstance(part, ast.BinOp):
+                        part = above[part]
+                    straight = isinstance(part, ast.Call) and called(part) in ("sorted", "len") and not part.keywords
+                    self.assertTrue(straight or isinstance(part, ast.Compare), f"{path.name}, line {node.lineno}")
 
     def test_l25_methods(self):
         own = [node.name for node, where in self.each_node(ast.FunctionDef)]
