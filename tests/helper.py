@@ -14,6 +14,19 @@ LENGTHS = (
     (MOST, MOST - 1, MOST - 2, 1, 0, None),
 )
 
+# Between 0 and 3 the way over 1 costs (4, 2), that over 2 costs (5, 2), the road (6, 1).
+FOUR = (4, [(0, 1, 1, 1), (1, 3, 3, 1), (0, 2, 2, 1), (2, 3, 3, 1), (0, 3, 6, 1), (3, 0, None, 1)])
+
+# Of these nothing is a map, an order of four places, a number of a place or a road.
+NO_MAPS = (None, 0, "places 1", [], (), (1,), (1, [], []), [1, []], (0, []), (17, []), (True, []), (1, ()), (1, None),
+           (2, [(0, 0, 1, 1)]), (2, [(0, 2, 1, 1)]), (2, [(0, 1, -1, 1)]), (2, [(0, 1, MOST + 1, 1)]),
+           (2, [(0, 1, 1, None)]), (2, [[0, 1, 1, 1]]), (2, [(0, 1, 1)]), (2, [(0, 1, 1, 1)] * 61), {}, object())
+NO_ORDERS = ([], [0, 1, 2], [0, 1, 2, 3, 4], [0, 1, 2, 2], [1, 2, 3, 4], [0, 1, 2, -1], [0, True, 2, 3],
+             [False, 1, 2, 3], (0, 1, 2, 3), "0123", 0, 3, False, True, {}, {0: 0, 1: 1, 2: 2, 3: 3}, [None] * 4,
+             [0, 1, 2, None], [0, 1, 2, [3]], [0, 1, 2, "3"], [0, 1, 2, 3.0], range(4), [[0, 1, 2, 3]], object())
+NO_NUMBERS = (-1, -4, -10 ** 69, 10 ** 69, True, False, None, "0", "", [], [0], (), (0,), (0, 1), {}, {0: 1}, {0}, 0.0,
+              1.0, b"0", object(), int)
+
 
 class Numbers:
     """Numbers that look like chance, and are the same each time."""

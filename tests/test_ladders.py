@@ -2,25 +2,14 @@ import copy
 import itertools
 import unittest
 
-from helper import MOST, cost_table, maps_with_orders, made_map, orders_of, own_kept, small_maps, spoil, told_maps
+from helper import (FOUR, MOST, NO_MAPS, NO_NUMBERS, NO_ORDERS, cost_table, made_map, maps_with_orders, orders_of,
+                    own_kept, small_maps, spoil, told_maps)
 from nodeladder.arcs import arc_costs, middles
 from nodeladder.errors import LadderError, NoArc, NoMap, NoOrder
 from nodeladder.ladders import Ladder
 from nodeladder.orders import ranked
 
-# Between 0 and 3 the way over 1 costs (4, 2), that over 2 costs (5, 2), the road (6, 1).
-NET = (4, [(0, 1, 1, 1), (1, 3, 3, 1), (0, 2, 2, 1), (2, 3, 3, 1), (0, 3, 6, 1), (3, 0, None, 1)])
-
-NO_PLACES = (-1, -4, 4, 5, 10 ** 69, True, False, None, "0", "", [], [0], (), (0,), (0, 1), {}, {0: 1}, {0}, 0.0, 1.0,
-             b"0", object(), int)
-
-NO_ORDERS = ([], [0, 1, 2], [0, 1, 2, 3, 4], [0, 1, 2, 2], [1, 2, 3, 4], [0, 1, 2, -1], [0, True, 2, 3],
-             [False, 1, 2, 3], (0, 1, 2, 3), "0123", 0, 3, False, True, {}, {0: 0, 1: 1, 2: 2, 3: 3}, [None] * 4,
-             [0, 1, 2, None], [0, 1, 2, [3]], [0, 1, 2, "3"], [0, 1, 2, 3.0], range(4), [[0, 1, 2, 3]], object())
-
-NO_MAPS = (None, 0, "places 1", [], (), (1,), (1, [], []), [1, []], (0, []), (17, []), (True, []), (1, ()), (1, None),
-           (2, [(0, 0, 1, 1)]), (2, [(0, 2, 1, 1)]), (2, [(0, 1, -1, 1)]), (2, [(0, 1, MOST + 1, 1)]),
-           (2, [(0, 1, 1, None)]), (2, [[0, 1, 1, 1]]), (2, [(0, 1, 1)]), (2, [(0, 1, 1, 1)] * 61), {}, object())
+NO_PLACES = NO_NUMBERS + (4, 5, 16)
 
 
 class LadderTest(unittest.TestCase):
@@ -36,8 +25,8 @@ class LadderTest(unittest.TestCase):
         self.assertEqual(ladder.kept(), sorted((u, w) for u, w in costs if costs[u, w] <= whole[u][w]))
 
     def test_one_by_hand(self):
-        ladder = Ladder(NET, [1, 2, 0, 3])
-        self.assertEqual(ladder.told_map(), NET)
+        ladder = Ladder(FOUR, [1, 2, 0, 3])
+        self.assertEqual(ladder.told_map(), FOUR)
         self.assertEqual(ladder.order(), [1, 2, 0, 3])
         self.assertEqual(ladder.arcs(), [(0, 1), (0, 2), (0, 3), (1, 3), (2, 3)])
         self.assertEqual([ladder.cost(u, w) for u, w in ladder.arcs()], [(1, 1), (2, 1), (4, 2), (3, 1), (3, 1)])
@@ -47,12 +36,12 @@ class LadderTest(unittest.TestCase):
 
     def test_an_arc_that_is_not_kept(self):
         # With 1 at the top the cheapest way over places below goes over 2, and the cheapest of all goes over 1.
-        ladder = Ladder(NET, [2, 0, 3, 1])
+        ladder = Ladder(FOUR, [2, 0, 3, 1])
         self.assertEqual(ladder.cost(0, 3), (5, 2))
         self.assertEqual(ladder.unpacked(0, 3), [2, 3])
         self.assertEqual(ladder.kept(), [(0, 1), (0, 2), (1, 3), (2, 3)])
         # With 0 and 3 at the bottom it is the road.
-        ladder = Ladder(NET, [0, 3, 1, 2])
+        ladder = Ladder(FOUR, [0, 3, 1, 2])
         self.assertEqual((ladder.cost(0, 3), ladder.middle(0, 3), ladder.unpacked(0, 3)), ((6, 1), None, [4]))
         self.assertNotIn((0, 3), ladder.kept())
 
@@ -89,7 +78,7 @@ class LadderTest(unittest.TestCase):
                 self.assertEqual({arc: ladder.cost(*arc) for arc in ladder.kept()}, own_kept(net, order))
 
     def test_kinds(self):
-        ladder = Ladder(NET, [1, 2, 0, 3])
+        ladder = Ladder(FOUR, [1, 2, 0, 3])
         self.assertIs(ladder.told_map().__class__, tuple)
         self.assertEqual([part.__class__ for part in ladder.told_map()], [int, list])
         for told in (ladder.order(), ladder.arcs(), ladder.kept(), ladder.unpacked(0, 3)):
@@ -109,9 +98,9 @@ class LadderTest(unittest.TestCase):
     def test_what_is_no_order_is_refused(self):
         for order in NO_ORDERS:
             with self.subTest(repr(order)), self.assertRaises(NoOrder):
-                Ladder(NET, order)
+                Ladder(FOUR, order)
             with self.assertRaises(NoOrder):
-                Ladder(NET, order=order)
+                Ladder(FOUR, order=order)
         self.assertRaises(NoOrder, Ladder, (1, []), [])
         self.assertRaises(NoOrder, Ladder, (1, []), [False])
         self.assertEqual(Ladder((1, []), [0]).order(), [0])
@@ -127,7 +116,7 @@ class LadderTest(unittest.TestCase):
 
     def test_what_is_no_place_has_no_arc(self):
         for order in ([1, 2, 0, 3], [2, 0, 3, 1], None):
-            ladder = Ladder(NET, order)
+            ladder = Ladder(FOUR, order)
             for asked in (ladder.cost, ladder.middle, ladder.unpacked):
                 for thing, place in itertools.product(NO_PLACES, range(4)):
                     with self.subTest(asked.__name__, thing=repr(thing), place=place):
@@ -148,11 +137,11 @@ class LadderTest(unittest.TestCase):
             asked(w=0, u=1)
 
     def test_a_refusal_is_a_ladder_error_and_changes_nothing(self):
-        ladder = Ladder(NET, [1, 2, 0, 3])
+        ladder = Ladder(FOUR, [1, 2, 0, 3])
         self.assertRaises(LadderError, ladder.unpacked, 0, 0)
         self.assertRaises(LadderError, Ladder, None)
-        self.assertRaises(LadderError, Ladder, NET, [])
-        self.assert_told(ladder, NET, [1, 2, 0, 3])
+        self.assertRaises(LadderError, Ladder, FOUR, [])
+        self.assert_told(ladder, FOUR, [1, 2, 0, 3])
 
     def test_what_is_handed_in_stays_and_what_is_told_is_new(self):
         for net, order in maps_with_orders(20, 1):
@@ -174,11 +163,11 @@ class LadderTest(unittest.TestCase):
 
     def test_ladders_beside_one_another(self):
         order = [1, 2, 0, 3]
-        one, other = Ladder(NET, order), Ladder(told_maps()["roads of length 0"], order)
+        one, other = Ladder(FOUR, order), Ladder(told_maps()["roads of length 0"], order)
         third = Ladder(one.told_map(), one.order())
-        self.assert_told(one, NET, order)
+        self.assert_told(one, FOUR, order)
         self.assert_told(other, told_maps()["roads of length 0"], order)
-        self.assert_told(third, NET, order)
+        self.assert_told(third, FOUR, order)
 
 
 class UnpackedTest(unittest.TestCase):
@@ -234,14 +223,14 @@ class UnpackedTest(unittest.TestCase):
 
     def test_a_new_list_each_time(self):
         for order in ([1, 2, 0, 3], [0, 3, 1, 2]):
-            ladder = Ladder(NET, order)
+            ladder = Ladder(FOUR, order)
             for arc in ladder.arcs():
                 told = ladder.unpacked(*arc)
                 kept = list(told)
                 told.append("spoiled")
                 self.assertEqual(ladder.unpacked(*arc), kept)
                 self.assertIsNot(ladder.unpacked(*arc), ladder.unpacked(*arc))
-            self.assert_unpacked(NET, order)
+            self.assert_unpacked(FOUR, order)
 
 
 if __name__ == "__main__":

@@ -34,6 +34,7 @@ NODES = """Module Expr ImportFrom alias FunctionDef ClassDef arguments arg keywo
     Eq NotEq Lt LtE Gt GtE Is IsNot In NotIn""".split()
 
 
+CALLED = ("len", "sorted", "range", "enumerate", "zip", "reversed", "min", "max", "sum", "any", "all", "divmod")
 WALKS = ("zip", "enumerate", "reversed", "range", "items", "keys", "values")
 
 
@@ -254,7 +255,7 @@ class LanguageTest(unittest.TestCase):
         for path, tree in self.each_tree():
             above = parents(tree)
             for node in ast.walk(tree):
-                if isinstance(node, ast.Name) and node.id in ("len", "sorted", "range", "min", "max", "sum", "any", "all"):
+                if isinstance(node, ast.Name) and node.id in CALLED:
                     part = above[node]
                     self.assertTrue(isinstance(part, ast.Call) and part.func is node, f"{path.name}, {node.lineno}")
 
